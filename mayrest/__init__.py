@@ -1,0 +1,1 @@
+"""Mayrest: which parts of a program may rest on which."""

@@ -1,0 +1,55 @@
+"""Values of many kinds, for the tests of what accepts any value."""
+
+from mayrest.errors import BadText, Breaks, Full, NoModule, RestError, TooMany
+
+
+def nested(value, wrap, depth):
+    """The value, wrapped so many times."""
+    for _ in range(depth):
+        value = wrap(value)
+    return value
+
+
+def other_values():
+    """Values of every kind but strings, each time new ones."""
+    return [
+        None,
+        True,
+        False,
+        0,
+        1,
+        -1,
+        6,
+        10 ** 39,
+        10 ** 40 - 1,
+        -(10 ** 40 - 1),
+        (),
+        ("app",),
+        ("app", "db"),
+        tuple("app"),
+        (None, "path"),
+        tuple(range(2000)),
+        nested("app", lambda value: (value,), 20),
+        [],
+        ["app"],
+        ["app", "db"],
+        ["app"] * 2000,
+        nested("app", lambda value: [value], 20),
+        {},
+        {"app": "db"},
+        {"path": ["app", ("app.db", {"app": None})]},
+        {number: "app" for number in range(1000)},
+        nested("app", lambda value: {"app": value}, 20),
+        nested("app", lambda value: ([value],), 10),
+        RestError("app"),
+        Full(),
+        NoModule("app"),
+        TooMany(6),
+        BadText(0, 0),
+        Breaks(("noring", ("app", "lib")), (("app", "lib"), ("lib", "app"))),
+    ]
+
+
+def any_values():
+    """Values of every kind, each time new ones."""
+    return other_values() + ["", "app", "app.db", "no path", "a" * 2000]
