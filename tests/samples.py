@@ -1,6 +1,7 @@
 """Values of many kinds, for the tests of what accepts any value."""
 
 from mayrest.errors import BadText, Breaks, Full, NoModule, RestError, TooMany
+from mayrest.programs import Program
 
 
 def nested(value, wrap, depth):
@@ -47,6 +48,10 @@ def other_values():
         TooMany(6),
         BadText(0, 0),
         Breaks(("noring", ("app", "lib")), (("app", "lib"), ("lib", "app"))),
+        Program(("app",), ()),
+        Program.of(("app", "db")),
+        (Program.of(("app", "db")), ("app", "db")),
+        (("app", "db"), ["app", "db"], ("db", None), {"app": ("db", True)}),
     ]
 
 

@@ -1,5 +1,6 @@
 """What the folder of the package holds, and what README.md shows."""
 
+import ast
 import doctest
 import pathlib
 import unittest
@@ -24,6 +25,13 @@ class TestFolder(unittest.TestCase):
                 lines = text.split("\n")
                 self.assertLess(len(lines), 400)
                 self.assertLessEqual(max(len(line) for line in lines), 120)
+
+    def test_its_functions_are_short(self):
+        for file in PACKAGE.glob("*.py"):
+            for node in ast.walk(ast.parse(file.read_text(encoding="utf-8"))):
+                if isinstance(node, ast.FunctionDef):
+                    with self.subTest(file=file.name, function=node.name):
+                        self.assertLessEqual(node.end_lineno - node.lineno + 1, 40)
 
 
 class TestReadme(unittest.TestCase):
