@@ -1,5 +1,6 @@
 """Values of many kinds, for the tests of what accepts any value."""
 
+from mayrest.books import Book
 from mayrest.errors import BadText, Breaks, Full, NoModule, RestError, TooMany
 from mayrest.programs import Program
 
@@ -51,6 +52,8 @@ def other_values():
         Program(("app",), ()),
         Program.of(("app", "db")),
         (Program.of(("app", "db")), ("app", "db")),
+        Book(()),
+        Book((("noring", ("app", "db")),)),
         (("app", "db"), ["app", "db"], ("db", None), {"app": ("db", True)}),
     ]
 

@@ -144,7 +144,8 @@ class TestChainHolds(unittest.TestCase):
                 (("app",), ("app",), ("app.ui",)), (("app",), ("app",), ()),
                 (("app",), ("app",), list(right)), (("app",), ("app",), right[::-1]),
                 (("app",), ("app",), ("app.ui", "app.db")), (("app",), ("app",), ("app", "app.db")),
-                (("app",), ("app",), ("app.ui", "app.core", ("app.db",))),
+                (("app",), ("app",), ("app.ui", "app.core", ("app.db",))), (("app",), ("app",), ("app.ui", ["app.core"])),
+                (("app",), ("app",), (["app.ui"], "app.core")), (("app",), ("app",), ("app.ui", {}, "app.db")),
                 (("app",), ("app",), (("app.ui", "app.core"), ("app.core", "app.db"))),
                 (("app",), ("app",), "app.ui app.core app.db")):
             with self.subTest(sources=sources, targets=targets, value=value):
