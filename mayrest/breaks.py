@@ -91,7 +91,8 @@ def _links(uses, paths):
     for user, used in uses:
         upper, lower = covered(paths, user), covered(paths, used)
         if upper is not None and lower is not None and upper != lower:
-            found[upper].setdefault(lower, (user, used))
+            if lower not in found[upper]:
+                found[upper][lower] = (user, used)
     return found
 
 

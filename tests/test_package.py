@@ -33,6 +33,13 @@ class TestFolder(unittest.TestCase):
                     with self.subTest(file=file.name, function=node.name):
                         self.assertLessEqual(node.end_lineno - node.lineno + 1, 40)
 
+    def test_what_operators_run_changes_items_of_items_by_assignments_alone(self):
+        for name in ("paths", "programs", "chains", "rules", "breaks", "books"):
+            for node in ast.walk(ast.parse((PACKAGE / (name + ".py")).read_text(encoding="utf-8"))):
+                if isinstance(node, ast.Attribute):
+                    with self.subTest(file=name, line=node.lineno):
+                        self.assertNotIn(node.attr, ("setdefault", "update"))
+
 
 class TestReadme(unittest.TestCase):
 
