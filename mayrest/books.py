@@ -65,3 +65,8 @@ class Book:
 
     def __str__(self):
         return f"{len(self._rules)} rules"
+
+
+def has_index(book, value):
+    """Whether the value, of any kind, is the index of a rule of the book."""
+    return isinstance(value, int) and not isinstance(value, bool) and 0 <= value < len(book)

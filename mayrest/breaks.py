@@ -19,11 +19,11 @@ def _row_place(rows, module):
 
 
 def _place(rule, module):
-    """What of the module decides which pairs with it the rule bars, in the form that bars takes."""
+    """What of the module decides what with it breaks the rule, in the form that bars and circles take."""
     kind = rule[0]
     if kind in ("layers", "stairs"):
         return _row_place(rule[1], module)
-    if kind == "apart":
+    if kind in ("apart", "noring"):
         return covered(rule[1], module)
     if kind == "face":
         return (covered((rule[1],), module), covered(rule[2], module))
@@ -31,7 +31,7 @@ def _place(rule, module):
 
 
 def places(rule, modules):
-    """What the rule, which is no "noring", goes by: the place of each of the modules."""
+    """What the rule goes by: the place of each of the modules."""
     return {module: _place(rule, module) for module in modules}
 
 
@@ -80,7 +80,7 @@ def _chain_breaks(program, rule):
     return found
 
 
-def _links(uses, paths):
+def _links(uses, stands, paths):
     """For each path, the others with a module that one of its modules uses, each with the first such use.
 
     The uses are ascending, and so the others stand in the order of their first uses.
@@ -89,19 +89,19 @@ def _links(uses, paths):
     for path in paths:
         found[path] = {}
     for user, used in uses:
-        upper, lower = covered(paths, user), covered(paths, used)
+        upper, lower = stands[user], stands[used]
         if upper is not None and lower is not None and upper != lower:
             if lower not in found[upper]:
                 found[upper][lower] = (user, used)
     return found
 
 
-def circles(uses, paths):
+def circles(uses, stands, paths):
     """Of each path that has some: the first evidence against a "noring" rule that begins in it.
 
-    The uses are ascending; no two of the paths overlap.
+    The uses are ascending; stands has the path that covers each of their modules, or None.
     """
-    links = _links(uses, paths)
+    links = _links(uses, stands, paths)
     found = []
     for path in paths:
         way = ring_from(links, path)
@@ -113,7 +113,7 @@ def circles(uses, paths):
 def breaks_of(program, rule):
     """The list of what each_break yields."""
     if rule[0] == "noring":
-        return circles(program.uses, rule[1])
+        return circles(program.uses, places(rule, program.modules), rule[1])
     if is_by_chains(rule):
         return _chain_breaks(program, rule)
     return _single_breaks(program, rule)
@@ -124,9 +124,14 @@ def each_break(program, rule):
     yield from breaks_of(program, rule)
 
 
+def first_evidence(found):
+    """That evidence of the list which comes first: with the fewest uses, then as a tuple; or None."""
+    return min(found, key=lambda evidence: (len(evidence), evidence), default=None)
+
+
 def find_break(program, rule):
     """The first evidence against the rule, or None if the program keeps it."""
-    return min(breaks_of(program, rule), key=lambda evidence: (len(evidence), evidence), default=None)
+    return first_evidence(breaks_of(program, rule))
 
 
 def _is_circle(paths, evidence):

@@ -45,14 +45,14 @@ def _barred_pairs(rules, users, useds):
     return found
 
 
-def _ringed_paths(rules):
-    """The paths of each rule that is a "noring"."""
-    return [rule[1] for rule in rules if rule[0] == "noring"]
+def _ringed(rules, modules):
+    """For each rule that is a "noring": where the modules stand for it, and its paths."""
+    return [(places(rule, modules), rule[1]) for rule in rules if rule[0] == "noring"]
 
 
 def _keeps_ringed(rings, uses):
-    """Whether the uses break none of the "noring" rules with these paths."""
-    return not any([circles(sorted(uses), paths) for paths in rings])
+    """Whether the uses break none of these "noring" rules."""
+    return not any([circles(sorted(uses), stands, paths) for stands, paths in rings])
 
 
 def _longer_ways(ways, modules, near, far):
@@ -72,7 +72,7 @@ def _chain_gap(rules, others, modules):
     far = _barred_pairs([rule for rule in rules if is_by_chains(rule)], modules, modules)
     sought = _barred_pairs(others, modules, modules)
     sought_far = _barred_pairs([rule for rule in others if is_by_chains(rule)], modules, modules)
-    rings = _ringed_paths(rules)
+    rings = _ringed(rules, modules)
     ways = [(module,) for module in modules]
     while ways:
         longer = _longer_ways(ways, modules, near, far)
@@ -108,7 +108,7 @@ def _next_paths(paths, passed):
 def _circle_gap(rules, paths, users, useds):
     """The fewest uses that keep the rules and break the "noring" rule with these paths, or None."""
     allowed = _allowed_uses(rules, users, useds, paths)
-    rings = _ringed_paths(rules)
+    rings = _ringed(rules, [*users, *useds])
     walks = [((path,), ()) for path in paths]
     while walks:
         longer = []
@@ -134,6 +134,6 @@ def gap(rules, others):
         raise TooMany(MAX_LISTED)
     first, second = _fresh_names(paths)
     users, useds = _modules_with(first, paths), _modules_with(second, paths)
-    found = [_circle_gap(rules, ringed, users, useds) for ringed in _ringed_paths(others)]
+    found = [_circle_gap(rules, rule[1], users, useds) for rule in others if rule[0] == "noring"]
     found.append(_chain_gap(rules, others, users))
     return min([uses for uses in found if uses is not None], key=len, default=None)

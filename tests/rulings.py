@@ -2,6 +2,7 @@
 
 import itertools
 
+from mayrest.programs import Program
 from tests.models import begins, by_size, every_chain
 
 # Rules of every kind over the pool of models.POOL, with "direct" and with "chain" where they have it.
@@ -107,3 +108,28 @@ def is_broken(program, rule):
         return any(all(step in rests for step in zip(row, row[1:] + row[:1]))
                    for many in range(2, len(rule[1]) + 1) for row in itertools.permutations(rule[1], many))
     return any(is_barred(rule, *pair) for pair in joined)
+
+
+# Two modules in each cell for these rules: those of a without a.c, of a.c, of b, and all others.
+CELL_RULES = [
+    *[(*form, how) for form in (("forbid", ("a",), ("b",)), ("forbid", ("b",), ("a.c",)), ("forbid", ("a.c", "b"), ("x",)),
+                                ("layers", (("a",), ("b",))), ("layers", (("b",), ("a.c",))), ("apart", ("a.c", "b")),
+                                ("apart", ("a", "b")), ("forbid", ("x",), ("a", "b"))) for how in ("direct", "chain")],
+    ("stairs", (("a.c",), ("b",))), ("stairs", (("b",), ("a",), ("x",))), ("only", ("b",), ("a.c",)), ("only", ("a.c",), ()),
+    ("only", ("a", "b"), ()), ("face", "a", ("a.c",)), ("face", "a", ()), ("face", "b", ()),
+    ("noring", ("a", "b")), ("noring", ("a.c", "b")), ("noring", ("x", "a.c", "b")), ("noring", ("a", "x")),
+]
+CELLS = [("a.m", "a.n"), ("a.c.m", "a.c.n"), ("b.m", "b.n"), ("x.m", "x.n"), ("y.m", "y.n")]
+
+
+def gap_programs():
+    """Programs with the uses of one evidence, over two modules in each cell: one of them is a gap if there is one."""
+    firsts = [first for first, _ in CELLS]
+    rows = [tuple(zip(way, way[1:])) for many in range(2, 6) for way in itertools.permutations(firsts, many)]
+    for many in (2, 3):
+        for cells in itertools.permutations(CELLS, many):
+            # Uses between different modules, in a circle of cells; a and a.c may stand for one another.
+            for ends in itertools.product(*[[cell, ("a.m", "a.c.n"), ("a.c.m", "a.n")] if cell[0][0] == "a" else [cell]
+                                            for cell in cells]):
+                rows.append(tuple((ends[at][0], ends[(at + 1) % many][1]) for at in range(many)))
+    return [Program.of(*uses) for uses in sorted({tuple(sorted(set(row))) for row in rows})]

@@ -61,3 +61,19 @@ def other_values():
 def any_values():
     """Values of every kind, each time new ones."""
     return other_values() + ["", "app", "app.db", "no path", "a" * 2000]
+
+
+# What is put in the place of a part of a value.
+STRAY = (None, True, False, 0, 1, -1, "", "app", (), [], {}, ("app", "db"), 10 ** 39)
+
+
+def replaced(value):
+    """The value with one part replaced, left out, doubled or given as a list, in all places in turn."""
+    found = [stray for stray in STRAY if repr(stray) != repr(value)]
+    if isinstance(value, tuple):
+        found.append(list(value))
+        for at, item in enumerate(value):
+            found.extend([(*value[:at], *value[at + 1:]), (*value[:at], item, *value[at:])])
+            found.extend((*value[:at], other, *value[at + 1:]) for other in replaced(item))
+        found.extend((*value[:at], value[at + 1], value[at], *value[at + 2:]) for at in range(len(value) - 1))
+    return found

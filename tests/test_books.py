@@ -13,7 +13,7 @@ from mayrest.errors import BadBook, RestError, TooMany
 from mayrest.programs import Program
 from mayrest.rules import rule_error
 from tests.models import CROWD, EMPTY, P, crowded, crowded_downwards, longest_ring, pairs_of, some_programs
-from tests.rulings import EIGHT, RULES, every_evidence, is_broken
+from tests.rulings import CELL_RULES, EIGHT, RULES, every_evidence, gap_programs, is_broken
 from tests.samples import any_values
 
 B = Book((("layers", (("app.ui",), ("app.core",), ("app.db",)), "chain"), ("forbid", ("lib",), ("app",), "direct"),
@@ -241,31 +241,6 @@ class TestFindings(unittest.TestCase):
             smaller = Program(program.modules, tuple(rng.sample(program.uses, len(program) // 2)))
             for rules in (EIGHT, CROWD_RULES):
                 self.assertLessEqual({index for index, _ in Book(rules)(smaller)}, {index for index, _ in Book(rules)(program)})
-
-
-# Two modules in each cell for these rules: those of a without a.c, of a.c, of b, and all others.
-CELL_RULES = [
-    *[(*form, how) for form in (("forbid", ("a",), ("b",)), ("forbid", ("b",), ("a.c",)), ("forbid", ("a.c", "b"), ("x",)),
-                                ("layers", (("a",), ("b",))), ("layers", (("b",), ("a.c",))), ("apart", ("a.c", "b")),
-                                ("apart", ("a", "b")), ("forbid", ("x",), ("a", "b"))) for how in ("direct", "chain")],
-    ("stairs", (("a.c",), ("b",))), ("stairs", (("b",), ("a",), ("x",))), ("only", ("b",), ("a.c",)), ("only", ("a.c",), ()),
-    ("only", ("a", "b"), ()), ("face", "a", ("a.c",)), ("face", "a", ()), ("face", "b", ()),
-    ("noring", ("a", "b")), ("noring", ("a.c", "b")), ("noring", ("x", "a.c", "b")), ("noring", ("a", "x")),
-]
-CELLS = [("a.m", "a.n"), ("a.c.m", "a.c.n"), ("b.m", "b.n"), ("x.m", "x.n"), ("y.m", "y.n")]
-
-
-def gap_programs():
-    """Programs with the uses of one evidence, over two modules in each cell: one of them is a gap if there is one."""
-    firsts = [first for first, _ in CELLS]
-    rows = [tuple(zip(way, way[1:])) for many in range(2, 6) for way in itertools.permutations(firsts, many)]
-    for many in (2, 3):
-        for cells in itertools.permutations(CELLS, many):
-            # Uses between different modules, in a circle of cells; a and a.c may stand for one another.
-            for ends in itertools.product(*[[cell, ("a.m", "a.c.n"), ("a.c.m", "a.n")] if cell[0][0] == "a" else [cell]
-                                            for cell in cells]):
-                rows.append(tuple((ends[at][0], ends[(at + 1) % many][1]) for at in range(many)))
-    return [Program.of(*uses) for uses in sorted({tuple(sorted(set(row))) for row in rows})]
 
 
 class TestImplies(unittest.TestCase):
