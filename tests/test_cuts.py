@@ -25,6 +25,10 @@ TREE = ("apart", ((0, (("app.db", "app.ui"),)), (1, (("lib.net", "app.core"),)))
 DIAMOND = Program.of(("a", "b"), ("b", "d"), ("a", "c"), ("c", "d"), ("d", "a"))
 ENDS = Book((("noring", ("b", "c")), ("forbid", ("a",), ("d",), "chain"), ("only", ("a",), ("b",))))
 
+# Rings of three modules in which each two uses side by side are evidence: two of the three uses have to go.
+RINGS = Program.of(*[pair for ring in ("abc", "def") for pair in zip(ring, ring[1:] + ring[:1])])
+BACK = Book(tuple(("forbid", (user,), (used,), "chain") for user, used in ("ac", "ba", "cb", "df", "ed", "fe")))
+
 
 def without(program, uses):
     """The program without these uses."""
@@ -136,6 +140,24 @@ class TestAgainstAllSetsOfUses(Checks):
         for program in some_programs(63, 150, 7, 11):
             self.check(program, Book(tuple(rng.sample(rules, rng.randint(1, 3)))))
 
+    def test_evidence_that_shares_uses(self):
+        self.assertEqual(self.check(RINGS, BACK), 4)
+        self.assertEqual(self.check(Program.of(*RINGS.uses[:3]), BACK), 2)
+        self.assertEqual(self.check(RINGS | Program.of(("a", "d"), ("f", "c")), BACK), 4)
+        # No more than two breaks, and one, can be found without common uses.
+        for number in (2, 3):
+            self.assertEqual(cut_tree(RINGS, BACK, number)[0], "cases")
+        self.assertEqual(cut_tree(Program.of(*RINGS.uses[:3]), BACK, 1)[0], "cases")
+        self.assertEqual([cut_tree(RINGS, BACK, number)[0] for number in (0, 1)], ["apart", "apart"])
+
+    def test_rings_of_uses_and_backward_rules(self):
+        rng = random.Random(67)
+        for _ in range(60):
+            names = rng.sample("abcdefg", 6)
+            uses = [*zip(names, names[1:]), (names[5], names[0]), *rng.sample(pairs_of(names), 4)]
+            pairs = rng.sample(pairs_of(names), 6)
+            self.check(Program.of(*dict.fromkeys(uses)), Book(tuple(("forbid", (user,), (used,), "chain") for user, used in pairs)))
+
     def test_eight_rules(self):
         for program in some_programs(64, 40, 8, 10):
             self.check(program, Book(EIGHT))
@@ -238,6 +260,17 @@ class TestCutTreeHolds(Checks):
                                 ((other, other, other), False), ((), False)):
             value = ("cases", 1, (("a", "b"), ("b", "d")), trees)
             self.assertIs(cut_tree_holds(DIAMOND, ENDS, 1, value), expected)
+        first, second = (("a", "b"), ("b", "d")), (("a", "c"), ("c", "d"))
+        inner = ("cases", 1, second, (("apart", ((2, (("d", "a"),)),)),) * 2)
+        again = ("cases", 1, first, (other,) * 2)
+        for trees, expected in (((inner, inner), True), ((inner, again), False), ((again, inner), False), ((again, again), False)):
+            self.assertIs(cut_tree_holds(DIAMOND, ENDS, 2, ("cases", 1, first, trees)), expected)
+            self.check_holds(DIAMOND, ENDS, 2, ("cases", 1, first, trees))
+
+    def test_cases_are_nothing_for_the_number_0(self):
+        for trees in ((("apart", ()),), (("apart", ((1, (("lib.net", "app.core"),)),)),), ()):
+            self.assertIs(cut_tree_holds(R, B, 0, ("cases", 0, (("app.db", "app.ui"),), trees)), False)
+            self.check_holds(R, B, 1, ("cases", 0, (("app.db", "app.ui"),), trees))
 
     def test_breaks_that_share_a_use(self):
         program = Program.of(("a", "b"), ("b", "d"), ("b", "e"), ("d", "a"))
@@ -261,12 +294,13 @@ class TestCutTreeHolds(Checks):
         program = Program.of(("a", "b"), ("b", "d"), ("a", "c"), ("c", "d"), ("d", "a"), ("b", "c"), ("c", "b"))
         for number in range(4):
             for tree in (cut_tree(program, ENDS, number), cut_tree(DIAMOND, ENDS, number), cut_tree(R, B, number),
+                         cut_tree(RINGS, BACK, number) if number == 2 else None,
                          ("cases", 1, (("a", "b"), ("b", "d")), (("apart", ((1, (("a", "c"), ("c", "d"))),)),) * 2), TREE):
                 if tree is None:
                     continue
                 for value in replaced(tree):
                     with self.subTest(number=number, value=value):
-                        for other, book in ((program, ENDS), (DIAMOND, ENDS), (R, B)):
+                        for other, book in ((program, ENDS), (DIAMOND, ENDS), (R, B), (RINGS, BACK)):
                             self.check_holds(other, book, number, value)
 
     def test_trees_with_other_words(self):

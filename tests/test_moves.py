@@ -316,6 +316,13 @@ class TestMoveTreeHolds(unittest.TestCase):
         self.assertIs(self.check_holds(1, tree, homes=("d", "c")), False)
         self.assertEqual(len(tree[3]), 3)
 
+    def test_cases_without_trees(self):
+        program = Program.of(("a.y", "a.x"))
+        book = Book((("only", ("a.x",), ()),))
+        value = ("cases", 0, (("a.y", "a.x"),), ())
+        for homes in (("a",), ("a", "b"), ("b",)):
+            self.assertEqual([self.check_holds(number, value, program, book, homes) for number in (0, 1)], [False, homes == ("a",)])
+
     def test_trees_that_are_changed_at_any_place(self):
         cases = [(self.PROGRAM, self.BOOK, self.HOMES), (P, B, ("tools",)), *some_cases(84, 12)]
         told = []
