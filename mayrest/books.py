@@ -21,6 +21,12 @@ def book_error(rules):
     return None
 
 
+def findings_of(rules, program):
+    """For each of the rules that the program breaks, its index and its first evidence."""
+    pairs = [(index, find_break(program, rule)) for index, rule in enumerate(rules)]
+    return tuple([(index, evidence) for index, evidence in pairs if evidence is not None])
+
+
 class Book:
     """Rules in their order."""
 
@@ -36,8 +42,7 @@ class Book:
 
     def __call__(self, program):
         """The findings: for each rule that the program breaks, its index and its first evidence."""
-        pairs = [(index, find_break(program, rule)) for index, rule in enumerate(self._rules)]
-        return tuple([(index, evidence) for index, evidence in pairs if evidence is not None])
+        return findings_of(self._rules, program)
 
     def __len__(self):
         return len(self._rules)

@@ -5,7 +5,7 @@ a new one.
 """
 
 from mayrest.bounds import MAX_MODULES, MAX_NAMES, MAX_RULES, MAX_USES
-from mayrest.books import Book, has_index
+from mayrest.books import Book, findings_of, has_index
 from mayrest.errors import (BadPath, BadReason, BadRule, Clash, InUse, Itself, NoAllowance, NoModule, NoPart, NoRule,
                             NoUse, Taken, TooMany)
 from mayrest.paths import is_path, overlap
@@ -22,7 +22,7 @@ def judged(program, allowances):
 
 def state_of(program, book, allowances):
     """The state with these, and with the findings of the book in the program without the allowed uses."""
-    return (program, book, allowances, book(judged(program, allowances)))
+    return (program, book, allowances, findings_of(book.rules, judged(program, allowances)))
 
 
 def _clashes(path, modules):
@@ -167,20 +167,7 @@ def _withdraw(state, use):
     return state_of(program, book, _allowances_without(allowances, use))
 
 
-CHANGES = {
-    "add_module": _add_module,
-    "drop_module": _drop_module,
-    "add_use": _add_use,
-    "cut_use": _cut_use,
-    "rename": _rename,
-    "merge": _merge,
-    "add_rule": _add_rule,
-    "drop_rule": _drop_rule,
-    "allow": _allow,
-    "withdraw": _withdraw,
-}
-
-# How many arguments each of them has.
+# How many arguments each edit has.
 ARGUMENTS = {
     "add_module": 1,
     "drop_module": 1,
@@ -204,8 +191,26 @@ def is_change(value):
 
 def changed(state, name, rest):
     """The state behind the edit of this name with the rest of its items, of any kinds, as arguments."""
-    change = CHANGES[name]
-    return change(state, *rest)
+    # No table of functions, as an operator of keepers, which sets an item, comes here, too.
+    if name == "add_module":
+        return _add_module(state, rest[0])
+    if name == "drop_module":
+        return _drop_module(state, rest[0])
+    if name == "add_use":
+        return _add_use(state, rest[0], rest[1])
+    if name == "cut_use":
+        return _cut_use(state, rest[0], rest[1])
+    if name == "rename":
+        return _rename(state, rest[0], rest[1])
+    if name == "merge":
+        return _merge(state, rest[0], rest[1])
+    if name == "add_rule":
+        return _add_rule(state, rest[0])
+    if name == "drop_rule":
+        return _drop_rule(state, rest[0])
+    if name == "allow":
+        return _allow(state, rest[0], rest[1])
+    return _withdraw(state, rest[0])
 
 
 def named_rules(state):
